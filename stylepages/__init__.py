@@ -1,0 +1,1 @@
+"""Stylepages: documents, style sheets and letters set to pages."""

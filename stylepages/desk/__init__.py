@@ -1,0 +1,1 @@
+"""The desk: its edits and their written form."""

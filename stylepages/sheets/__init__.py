@@ -1,0 +1,1 @@
+"""The sheet: properties, rules, whole sheets and their comparison."""

@@ -1,0 +1,1 @@
+"""The tree: the parts of a document, their edits and their written form."""
