@@ -1,0 +1,1 @@
+"""The faces: strokes, ink and letters."""
