@@ -60,6 +60,7 @@ def _write_worth(worth):
     return write_item(worth) if isinstance(worth, str) else str(worth)
 
 
+# The tables below hold functions of this file alone, so imported ones are called in one of these.
 def _write_word(word):
     return str(word)
 
