@@ -54,9 +54,61 @@ METHODS = set(
 ON_THE_SPOT = set("zip enumerate reversed range".split())
 VIEWS = set("items keys values".split())
 TAKERS = set("list tuple dict sorted sum any all enumerate zip min max join reversed len".split())
+MODIFIERS = set("append clear extend insert pop remove reverse setdefault update add discard".split())
 CATCHABLE = set("KeyError ZeroDivisionError StopIteration".split())
 FUNCTIONS = (ast.FunctionDef, ast.Lambda)
 COMPREHENSIONS = (ast.ListComp, ast.DictComp, ast.SetComp)
+
+
+def roots(node):
+    """Return the names and attributes whose lists an expression gives, or gives items of."""
+    if isinstance(node, (ast.Name, ast.Attribute)):
+        return [ast.unparse(node)]
+    if isinstance(node, ast.Subscript):
+        return roots(node.value)
+    if isinstance(node, ast.IfExp):
+        return roots(node.body) + roots(node.orelse)
+    if isinstance(node, ast.BoolOp):
+        return [text for value in node.values for text in roots(value)]
+    if isinstance(node, ast.Call) and isinstance(node.func, ast.Attribute) and node.func.attr in VIEWS:
+        return roots(node.func.value)
+    if isinstance(node, ast.Call) and getattr(node.func, "id", "") in ON_THE_SPOT:
+        return [text for value in node.args for text in roots(value)]
+    return []
+
+
+def alias_classes(function):
+    """Return for each name or attribute one that stands for all that may be the same list."""
+    kin = {}
+    for node in ast.walk(function):
+        if not isinstance(node, ast.Assign):
+            continue
+        for target in node.targets:
+            for left, right in paired(target, node.value):
+                # A slice is a new list, and an item of a list is not the list itself.
+                for text in roots(right) if not isinstance(right, ast.Subscript) else []:
+                    one, other = kin.get(left, left), kin.get(text, text)
+                    kin.update({key: one for key in list(kin) + [text, other] if kin.get(key, key) == other})
+    return kin
+
+
+def paired(target, value):
+    """Return pairs of an assigned name or attribute and the expression that is assigned to it."""
+    if isinstance(target, (ast.Name, ast.Attribute)):
+        return [(ast.unparse(target), value)]
+    if isinstance(target, ast.Tuple) and isinstance(value, ast.Tuple) and len(target.elts) == len(value.elts):
+        return [row for left, right in zip(target.elts, value.elts) for row in paired(left, right)]
+    return []
+
+
+def modified(node):
+    """Return the names and attributes of the lists that a single node modifies."""
+    if isinstance(node, ast.Call) and isinstance(node.func, ast.Attribute) and node.func.attr in MODIFIERS:
+        return roots(node.func.value)
+    targets = getattr(node, "targets", [getattr(node, "target", None)])
+    if isinstance(node, (ast.Assign, ast.AugAssign, ast.Delete)):
+        return [text for target in targets if isinstance(target, ast.Subscript) for text in roots(target)]
+    return []
 
 
 class Form:
@@ -95,6 +147,19 @@ class Form:
 
     def all_nodes(self, kind):
         return [node for tree in self.trees.values() for node in ast.walk(tree) if isinstance(node, kind)]
+
+    # Loops and what they go over.
+
+    def check_For(self, node):
+        function = node
+        while not isinstance(function, (ast.FunctionDef, ast.Module)):
+            function = function.parent
+        kin = alias_classes(function)
+        walked = {kin.get(text, text) for text in roots(node.iter)}
+        for inner in [found for row in node.body for found in ast.walk(row)]:
+            for text in modified(inner):
+                if kin.get(text, text) in walked:
+                    self.say("L23", inner.lineno, f"{text} is what the loop of row {node.lineno} goes over")
 
     # Files and characters.
 

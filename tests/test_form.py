@@ -48,7 +48,13 @@ BREACHES = {
         "def f(x):\n    raise x\n",
     ],
     "L20": ["def f(x, y):\n    return x is y\n"],
-    "L23": ["def f(x):\n    y = zip(x, x)\n    return y\n", "def f(x):\n    return x.items()\n"],
+    "L23": [
+        "def f(x):\n    y = zip(x, x)\n    return y\n", "def f(x):\n    return x.items()\n",
+        "def f(x):\n    for y in x:\n        x.append(y)\n", "def f(x):\n    for k, y in enumerate(x):\n        x[k] = y\n",
+        "def f(x):\n    for y in x.rows:\n        x.rows.pop()\n", "def f(x):\n    for y in x[0]:\n        x[1].append(y)\n",
+        "def f(x):\n    while x:\n        z = []\n        for y in x:\n            z.append(y)\n        x = z\n",
+        "def f(x):\n    z, y = x, x\n    w = z\n    for y in w or []:\n        del x[0]\n",
+    ],
     "L24": ["def f(x):\n    return set(x)\n", "def f(x):\n    for y in {1, 2}:\n        x = y\n    return x\n"],
     "L25": ["def f(x):\n    return x.format(1)\n", "def f(x):\n    x.sort()\n    return x\n"],
     "L27": ["NAME = 'a\\tb\\r'\n", "NAME = '100%'\n"],
@@ -78,6 +84,14 @@ class FormTest(unittest.TestCase):
 
     def test_a_good_file(self):
         self.assertEqual(self.breaches(GOOD), [])
+
+    def test_good_loops(self):
+        for text in (
+            "def f(x):\n    for y in list(x):\n        x.append(y)\n",
+            "def f(x):\n    z = []\n    for y in x:\n        z.append(y)\n    return z\n",
+            "def f(x):\n    z = x[1:]\n    for y in x:\n        z.append(y)\n    return z\n",
+        ):
+            self.assertEqual(self.breaches(text + "\n\nNAMES = 1\n"), [], text)
 
     def test_planted_breaches(self):
         for rule, texts in BREACHES.items():

@@ -109,19 +109,19 @@ class Search:
         """Return the least lineage on which the values of the property differ, or None."""
         start = (tuple([INITIAL[name] for name in self._names]), no_progress(self._selectors))
         seen = {start: True}
-        level = [((), start)]
-        while level:
-            fresh = []
-            # Lineages come in ascending order, so the first one that leads to a state is the least.
-            for path, (values, progress) in level:
-                for pair, fits in self._pairs:
-                    behind, one, other = self._move(progress, fits)
-                    left, right = self._values(values, one), self._values(values, other)
-                    if left[-1] != right[-1]:
-                        return path + (pair,)
-                    # Where the sizes differ, the search for the size finds a lesser lineage.
-                    if left == right and (left, behind) not in seen:
-                        seen[(left, behind)] = True
-                        fresh.append((path + (pair,), (left, behind)))
-            level = fresh
+        rows = [((), start)]
+        at = 0
+        # Lineages are met in ascending order, so the first one that leads to a state is the least.
+        while at < len(rows):
+            path, (values, progress) = rows[at]
+            at += 1
+            for pair, fits in self._pairs:
+                behind, one, other = self._move(progress, fits)
+                left, right = self._values(values, one), self._values(values, other)
+                if left[-1] != right[-1]:
+                    return path + (pair,)
+                # Where the sizes differ, the search for the size finds a lesser lineage.
+                if left == right and (left, behind) not in seen:
+                    seen[(left, behind)] = True
+                    rows.append((path + (pair,), (left, behind)))
         return None
