@@ -1,0 +1,1 @@
+"""The lines: rows of boxes and how they are broken."""

@@ -1,0 +1,1 @@
+"""The words: the flow of a document, its resolved runs and their pieces."""
