@@ -1,0 +1,1 @@
+"""The pages: galleys and how they are broken."""
