@@ -126,6 +126,16 @@ class PlainRow:
             return (0, ())
         return (min(found)[0], min(found)[2]) if found else None
 
+    def certificate(self):
+        """Point 52, by trying all chains."""
+        reached = {((0,) + ends)[-2:] for ends, _ in self.chains(0)}
+        found = []
+        for start, end in sorted(reached):
+            own = self.prices[(start, end)]
+            rests = [price - own for ends, price in self.chains(start) if ends[0] == end and ends[-1] == self.many]
+            found.append((start, end, own, min(rests) if rests else None))
+        return found
+
     def blocked(self):
         """Point 53, by trying all chains; None if no stretch is blocked."""
         covered = set()

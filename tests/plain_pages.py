@@ -75,9 +75,9 @@ class PlainPages:
                 self.options[state] = plain_options(galley, frame, state)
                 waiting += [page[4] for page in self.options[state]]
 
-    def rows(self):
-        """Yield (price, pages, triples) of all rows of pages that lead to the end state."""
-        waiting = [((0, 0, ()), 0, (), ())]
+    def rows(self, start=(0, 0, ())):
+        """Yield (price, pages, triples) of all rows of pages that lead from a state to the end state."""
+        waiting = [(start, 0, (), ())]
         while waiting:
             state, total, pages, triples = waiting.pop()
             if state == self.last:
@@ -96,6 +96,14 @@ class PlainPages:
         if best is None:
             return max(state[0] for state in self.options)
         return (best[0][0], best[1])
+
+    def certificate(self):
+        """Point 61, by trying all rows of pages from each state."""
+        found = []
+        for state in sorted(self.options):
+            rests = [price for price, _, _ in self.rows(state)]
+            found.append(state + (min(rests) if rests else None,))
+        return found
 
 
 def random_galley(source, many, floats, tallest=12):

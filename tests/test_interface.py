@@ -37,11 +37,31 @@ FUNCTIONS = {
     },
     "lines.breaking": {"break_lines": "(row, measure)"},
     "lines.forward": {"break_forward": "(row, measure)"},
+    "lines.certificate": {"line_certificate": "(row, measure)"},
     "lines.blocked": {"blocked_stretch": "(row, measure)"},
+    "pages.galley": {"make_galley": "(paragraphs)"},
     "pages.options": {"page_options": "(galley, frame, state)"},
     "pages.breaking": {"break_pages": "(galley, frame)"},
+    "pages.forward": {"pages_forward": "(galley, frame)", "fewest_pages": "(galley, frame)"},
+    "pages.certificate": {"page_certificate": "(galley, frame)"},
+    "refs.assignments": {
+        "assignments": "(count, classes)", "settle": "(setter, count, classes)",
+        "all_consistent": "(setter, count, classes)",
+    },
+    "whole.trial": {"try_assignment": "(flowed, faces, settings, assignment)"},
+    "whole.setting": {
+        "set_document": "(root, sheet, faces, settings, *, forward=False)",
+        "cells_of": "(root, sheet, faces, settings)", "label_pages": "(root, sheet, faces, settings)",
+    },
+    "printing.places": {
+        "print_line": "(pieces, start, end, measure, *, left=0, top=0)",
+        "print_block": "(pieces, ends, measure, lead, *, top=0)",
+    },
+    "printing.reading": {"read_line": "(letters, faces)", "read_back": "(pages, faces)"},
+    "printing.changes": {"changed_pages": "(before, after)"},
     "desk.edits": {"independent_edits": "(first, second)"},
     "desk.notation": {"write_edit": "(edit)", "read_edit": "(line)"},
+    "desk.script": {"run_script": "(desk, script)"},
 }
 
 # For each class its module, its arguments, and what stands in it.
@@ -66,6 +86,15 @@ CLASSES = {
         "lines.measure", "(width, *, indent=0, align='both', hyphen=50, twin=100, river=0, loose=2)", "key of",
     ),
     "Frame": ("pages.frame", "(height, *, columns=1, rule=4, under=4, wait=1, late=50, uneven=1)", "key of"),
+    "Table": ("refs.assignments", "(verdicts)", "__call__"),
+    "Settings": ("whole.settings", "(**given)", "value data changed classes measure frame"),
+    "Listing": ("printing.listing", "(pages)", "rows"),
+    "NumberedListing": ("printing.listing", "(pages)", "rows"),
+    "HeadedListing": ("printing.listing", "(pages)", "rows"),
+    "Desk": (
+        "desk.desk", "(root, sheet, faces, settings)",
+        "do undo redo would inverse state kept history result recomputed steps undone",
+    ),
 }
 
 
@@ -94,8 +123,26 @@ class InterfaceTest(unittest.TestCase):
                 self.assertIsInstance(found.__dict__[name], staticmethod)
         face = importlib.import_module("stylepages.faces.face").Face
         self.assertIsInstance(face.__dict__["space"], property)
+        desk = importlib.import_module("stylepages.desk.desk").Desk
+        for name in ("result", "recomputed", "steps", "undone"):
+            self.assertIsInstance(desk.__dict__[name], property)
         ruler = importlib.import_module("stylepages.faces.ruler").Ruler
         self.assertEqual(str(inspect.signature(ruler.__call__)), "(self, word, size=1)")
+
+    def test_methods(self):
+        settings = importlib.import_module("stylepages.whole.settings").Settings
+        desk = importlib.import_module("stylepages.desk.desk").Desk
+        for method, arguments in (
+            (settings.value, "(self, name)"), (settings.changed, "(self, **given)"),
+            (settings.measure, "(self, style, *, full=False)"), (desk.do, "(self, *edits)"),
+            (desk.would, "(self, *edits)"), (desk.inverse, "(self, edit)"),
+        ):
+            self.assertEqual(str(inspect.signature(method)), arguments)
+
+    def test_the_listings_are_one_family(self):
+        listing = importlib.import_module("stylepages.printing.listing")
+        self.assertEqual(listing.NumberedListing.__bases__, (listing.Listing,))
+        self.assertEqual(listing.HeadedListing.__bases__, (listing.NumberedListing,))
 
 
 if __name__ == "__main__":

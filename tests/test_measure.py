@@ -62,6 +62,7 @@ class FrameTest(unittest.TestCase):
         frame = Frame.of(key)
         self.assertIsInstance(frame, Frame)
         self.assertEqual(frame.key(), key)
+        self.assertEqual(Frame.of(Frame(9, columns=2, wait=0).key()).key(), (9, 2, 4, 4, 0, 50, 1))
         self.assertEqual(tuple(getattr(frame, name) for name in self.NAMES), key)
 
 

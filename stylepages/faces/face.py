@@ -73,6 +73,14 @@ class Face:
         if char not in self._letters:
             raise NoLetter(char)
 
+    def letter_or_none(self, char):
+        """Return the letter of the character, or None."""
+        return self._letters.get(char)
+
+    def kern_or_none(self, pair):
+        """Return the amount of the kern of the pair, or None."""
+        return self._kerns.get(pair)
+
     def advance(self, char):
         """Return the advance of the letter."""
         self._need(char)

@@ -1,7 +1,15 @@
 """The possible lines of a bare row, and which of them may follow one another."""
 
 from stylepages.lines.glue import Glue
-from stylepages.lines.prices import gap_spans, hyphen_glue, joint_glue, overlaps, price_with_glue, twin_price
+from stylepages.lines.prices import (
+    hyphen_glue,
+    joint_glue,
+    overlap_often,
+    places_with_glue,
+    price_with_glue,
+    spans_between,
+    twin_price,
+)
 
 
 def _glues_from(row, start):
@@ -23,6 +31,7 @@ class PossibleLines:
         self._row = row
         self._measure = measure
         self._prices = {}
+        self._glues = {}
         self._starts = [[] for _ in range(self.last + 1)]
         self._ends = [[] for _ in range(self.last + 1)]
         self._spans = {}
@@ -36,6 +45,7 @@ class PossibleLines:
             price = price_with_glue(self._row, start, end, self._measure, whole)
             if price is not None:
                 self._prices[(start, end)] = price
+                self._glues[(start, end)] = whole
                 self._starts[end].append(start)
                 self._ends[start].append(end)
 
@@ -47,18 +57,23 @@ class PossibleLines:
         """Return the list of the places at which possible lines from this place end, ascending."""
         return list(self._ends[start])
 
+    def price(self, start, end):
+        """Return the price of a possible line."""
+        return self._prices[(start, end)]
+
     def price_behind(self, start, end):
         """Return the price of a possible line with its pair price behind any line that it may follow."""
-        return self._prices[(start, end)] + twin_price(self._row, start, end, self._measure)
+        return self.price(start, end) + twin_price(self._row, start, end, self._measure)
 
     def _spans_of(self, start, end):
         line = (start, end)
         if line not in self._spans:
-            self._spans[line] = gap_spans(self._row, start, end, self._measure)
+            places = places_with_glue(self._row, start, end, self._measure, self._glues[line])
+            self._spans[line] = spans_between(self._row, start, places)
         return self._spans[line]
 
     def may_follow(self, start, middle, end):
         """Tell whether the possible line (middle, end) may follow the possible line (start, middle)."""
         if self._measure.river == 0:
             return True
-        return overlaps(self._spans_of(start, middle), self._spans_of(middle, end)) < self._measure.river
+        return not overlap_often(self._spans_of(start, middle), self._spans_of(middle, end), self._measure.river)

@@ -71,45 +71,59 @@ def line_price(row, start, end, measure):
     return price_with_glue(row, start, end, measure, line_glue(row, start, end))
 
 
-def _extra(rest, glue, passed):
-    """Return how far a box moves that stands behind gaps with the glue `passed` in a line of align both."""
+def _extra(rest, glue, stretch, shrink):
+    """Return how far a box moves in a line of align both, behind gaps that together have this stretch and shrink."""
     if rest > 0:
-        return rest * passed.stretch // glue.stretch
+        return rest * stretch // glue.stretch
     if rest < 0:
-        return -(-rest * passed.shrink // glue.shrink)
+        return -(-rest * shrink // glue.shrink)
     return 0
+
+
+def places_with_glue(row, start, end, measure, glue):
+    """Return the list of the places of the boxes of the possible line (start, end), which has this glue."""
+    widths, joints = row
+    rest = _room(start, measure) - glue.width
+    if measure.align == "left" or (rest > 0 and end == len(widths)):
+        rest = 0
+    plain = measure.indent if start == 0 else 0
+    stretch = 0
+    shrink = 0
+    places = [plain]
+    for at in range(start, end - 1):
+        joint = joints[at]
+        if joint[0] == "gap":
+            plain = plain + widths[at] + joint[1]
+            stretch = stretch + joint[2]
+            shrink = shrink + joint[3]
+        else:
+            plain = plain + widths[at] - joint[2]
+        places.append(plain + _extra(rest, glue, stretch, shrink))
+    return places
 
 
 def box_places(row, start, end, measure):
     """Return the list of the places of the boxes of the possible line (start, end)."""
+    return places_with_glue(row, start, end, measure, line_glue(row, start, end))
+
+
+def spans_between(row, start, places):
+    """Return the list of the spans of the gaps between boxes at these places, the first of which is box `start`."""
     widths, joints = row
-    glue = line_glue(row, start, end)
-    rest = _room(start, measure) - glue.width
-    if measure.align == "left" or (rest > 0 and end == len(widths)):
-        rest = 0
-    indent = measure.indent if start == 0 else 0
-    passed = Glue(0, 0, 0)
-    places = [indent]
-    for at in range(start, end - 1):
-        # The width that is passed is the plain place, counted from the first box.
-        passed = passed + Glue(widths[at], 0, 0) + joint_glue(joints[at])
-        places.append(indent + passed.width + _extra(rest, glue, passed))
-    return places
+    spans = []
+    for k in range(len(places) - 1):
+        if joints[start + k][0] == "gap":
+            spans.append((places[k] + widths[start + k], places[k + 1]))
+    return spans
 
 
 def gap_spans(row, start, end, measure):
     """Return the list of the spans of the gaps of the possible line (start, end)."""
-    widths, joints = row
-    places = box_places(row, start, end, measure)
-    spans = []
-    for at in range(start, end - 1):
-        if joints[at][0] == "gap":
-            spans.append((places[at - start] + widths[at], places[at - start + 1]))
-    return spans
+    return spans_between(row, start, box_places(row, start, end, measure))
 
 
-def overlaps(before, behind):
-    """Return the number of the spans behind that overlap at least one of the spans before."""
+def overlap_often(before, behind, river):
+    """Tell whether at least so many of the spans behind overlap at least one of the spans before."""
     many = 0
     at = 0
     for first, end in behind:
@@ -118,7 +132,9 @@ def overlaps(before, behind):
             at += 1
         if at < len(before) and before[at][0] < end:
             many += 1
-    return many
+            if many >= river:
+                return True
+    return False
 
 
 def twin_price(row, middle, end, measure):
@@ -130,6 +146,6 @@ def pair_price(row, start, middle, end, measure):
     """Return the pair price of two possible lines, or None if they must not follow one another."""
     if measure.river > 0:
         before, behind = gap_spans(row, start, middle, measure), gap_spans(row, middle, end, measure)
-        if overlaps(before, behind) >= measure.river:
+        if overlap_often(before, behind, measure.river):
             return None
     return twin_price(row, middle, end, measure)

@@ -8,15 +8,13 @@ START = (0, 0, ())
 
 def reached_pages(options):
     """Return the dict from each state that can be reached to the pages from there that are worth taking."""
-    states = [START]
+    waiting = [START]
     reached = {}
-    at = 0
-    while at < len(states):
-        state = states[at]
-        at += 1
+    while waiting:
+        state = waiting.pop()
         if state not in reached:
             reached[state] = options.cheapest(state)
-            states.extend([page[4] for page in reached[state]])
+            waiting.extend([page[4] for page in reached[state] if page[4] not in reached])
     return reached
 
 

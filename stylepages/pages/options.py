@@ -12,17 +12,12 @@ class Options:
         self._best = {}
         self.last_state = (self._sums.last_line(), self._sums.last_float(), ())
 
-    def _ages_behind(self, state, end, floats_end):
-        """Return the ages of the pending floats behind a page."""
-        line, floats, ages = state
-        older = [age + 1 for age in ages[floats_end - floats:]]
-        fresh = self._sums.marked_before(end) - max(floats_end, self._sums.marked_before(line))
-        return tuple(older + [1] * fresh)
-
-    def _room(self, state, end, floats_end):
-        line, floats, _ = state
-        filled = self._sums.floats_height(floats, floats_end, self._frame.under)
-        return self._frame.height - filled - self._sums.notes_height(line, end, self._frame.rule)
+    def _least_floats_end(self, state, end):
+        """Return how many floats have to be set behind a page, so that none waits too long."""
+        _, floats, ages = state
+        if self._frame.wait == 0:
+            return self._sums.marked_before(end)
+        return floats + max([k + 1 for k, age in enumerate(ages) if age >= self._frame.wait], default=0)
 
     def _page_ends(self, line):
         """Return the ends of pages that begin with this line, ascending."""
@@ -35,18 +30,26 @@ class Options:
                 ends.append(end)
         return ends
 
+    def _moves_to(self, state, end):
+        """Return the ways on from a state with pages that end at this line."""
+        line, floats, ages = state
+        older = tuple([age + 1 for age in ages])
+        pending_before, marked = self._sums.marked_before(line), self._sums.marked_before(end)
+        free = self._frame.height - self._sums.notes_height(line, end, self._frame.rule)
+        found = []
+        for floats_end in range(self._least_floats_end(state, end), marked + 1):
+            room = free - self._sums.floats_height(floats, floats_end, self._frame.under)
+            # With more floats the room is even less.
+            if room < 0:
+                break
+            if end > line or floats_end > floats:
+                fresh = (1,) * (marked - max(floats_end, pending_before))
+                found.append((end, floats_end, room, (end, floats_end, older[floats_end - floats:] + fresh)))
+        return found
+
     def moves(self, state):
         """Return (end, floats_end, room, next_state) for each way on from a state that the columns may allow."""
-        line, floats, _ = state
-        found = []
-        for end in self._page_ends(line):
-            for floats_end in range(floats, self._sums.marked_before(end) + 1):
-                ages = self._ages_behind(state, end, floats_end)
-                room = self._room(state, end, floats_end)
-                sets_any = end > line or floats_end > floats
-                if sets_any and room >= 0 and all([age <= self._frame.wait for age in ages]):
-                    found.append((end, floats_end, room, (end, floats_end, ages)))
-        return found
+        return [move for end in self._page_ends(state[0]) for move in self._moves_to(state, end)]
 
     def _splits(self, line, end):
         """Return the splits of the lines into columns, ascending."""

@@ -1,5 +1,6 @@
 """The flow of a document: its content, sorted into paragraphs, notes and floats."""
 
+from stylepages.sheets.properties import computed
 from stylepages.tree.parts import is_part
 from stylepages.words.runs import has_letters, joined_runs
 from stylepages.words.values import values_of_parts
@@ -132,4 +133,4 @@ def flow_of_values(root, values, lost):
 
 def flow(root, sheet, *, lost="?"):
     """Return the flow (paragraphs, notes, floats, labels, references) of the document."""
-    return flow_of_values(root, values_of_parts(root, sheet), lost)
+    return flow_of_values(root, values_of_parts(root, sheet, computed), lost)

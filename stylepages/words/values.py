@@ -1,6 +1,6 @@
 """The values of the parts of a document that are laid out."""
 
-from stylepages.sheets.properties import computed, initial_values
+from stylepages.sheets.properties import initial_values
 from stylepages.tree.parts import is_part, lineage, walk
 
 
@@ -11,11 +11,15 @@ def _lies_in_none(path, values):
     return owner not in values or (owner != () and values[owner]["place"] == "none")
 
 
-def values_of_parts(root, sheet):
-    """Return the dict from path to values of all parts, without those that lie in a part that is left out."""
+def values_of_parts(root, sheet, work_out):
+    """Return the dict from path to values of all parts, without those that lie in a part that is left out.
+
+    `work_out` is called with the values of the parent and the declared values of
+    each part, in document order, and returns the values of the part.
+    """
     values = {}
     for path, item in walk(root):
         if is_part(item) and (path == () or not _lies_in_none(path, values)):
             parent = values[path[:-1]] if path else initial_values()
-            values[path] = computed(parent, sheet.declared(lineage(root, path)))
+            values[path] = work_out(parent, sheet.declared(lineage(root, path)))
     return values

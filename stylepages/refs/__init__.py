@@ -1,0 +1,1 @@
+"""The references: assignments of forms to them."""

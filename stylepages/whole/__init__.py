@@ -1,0 +1,1 @@
+"""The whole setting: settings, trials of assignments, and printed pages."""
