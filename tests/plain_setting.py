@@ -233,7 +233,7 @@ RULES = (
     "p { place block }", "p { place block; indent 3; below 4 }", "n { place note; lead 8 }", "f { place float; lead 9 }",
     "f { place float; align left }", "x { place none }", "b { face bold }", "s { size 3/2 }", "p.m { align left }",
     "p { keep yes }", "doc { lead 10; least 2 }", "doc { size 1; lead 7 }", "f b { size 1! }", "* { above 2 }",
-    "p > b { place line; size 3 }",
+    "p > b { place line; size 3 }", "p.m { lead 6/1; above 3/2 }", "n.m { lead 5 }",
 )
 ALPHABETS = {"slanted": "VAixol.'", "even": "abcdefgh", "lacking": "VAixol.z"}
 

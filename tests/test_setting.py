@@ -157,6 +157,19 @@ class SettingTest(unittest.TestCase):
         found = self.pages(document, sheet, width=1, height=30, columns=2, gutter=1, uneven=0)
         self.assertEqual(found[0][2], [[(0, 0, "a"), (10, 0, "b")], [(0, 2, "c"), (18, 2, "d")]])
 
+    def test_lines_of_several_heights(self):
+        sheet = BASE + "\np.m { lead 17; above 2 }\nn.m { lead 5 }\nf.m { lead 9 }"
+        document = '(doc (p "a" (f.m "v w") (f "x") (n.m "y z") (n "u")) (p.m "b c") (p "d e"))'
+        self.assertEqual(self.pages(document, sheet, width=1, height=200), [(
+            1, [[(0, 0, "v"), (9, 0, "w")], [(18, 0, "x")]],
+            [[(29, 0, "a"), (41, 0, "b"), (58, 0, "c"), (75, 0, "d"), (85, 0, "e")]],
+            [[(184, 0, "y"), (189, 0, "z")], [(194, 0, "u")]],
+        )])
+        document = '(doc (p "a") (p.m "b c") (p "d e"))'
+        self.assertEqual(self.pages(document, sheet, width=1, gutter=0, columns=2, height=46), [
+            (1, [], [[(0, 0, "a"), (12, 0, "b")], [(0, 1, "c"), (17, 1, "d"), (27, 1, "e")]], []),
+        ])
+
     def test_stretched_lines_and_indents(self):
         sheet = BASE + "\np { indent 2 }"
         result = self.set('(doc (p "ab cd ef gh"))', sheet, width=8)
